@@ -202,6 +202,7 @@ func TestSuffix(t *testing.T) {
 			epoch(other, math.MaxUint64)
 		}},
 		{true, func(v *api.View, chip, other *api.Chip) { v.Number, chip.View.Number = 0, math.MaxUint64 }},
+		{true, func(v *api.View, chip, other *api.Chip) { v.Number, chip.View = 1, api.View{} }},
 		{false, func(v *api.View, chip, other *api.Chip) { chip.Here = false }},
 		{false, func(v *api.View, chip, other *api.Chip) { chip.Store = false }},
 		{false, func(v *api.View, chip, other *api.Chip) { chip.Sound = false }},
