@@ -321,6 +321,21 @@ func TestRenewBreaksOff(t *testing.T) {
 	}
 }
 
+// P14.5, rule 3: and so is one whose Renew finds it worn, in whatever erase.
+func TestRenewWorn(t *testing.T) {
+	for erase := range 10 {
+		x := made(t, fmt.Sprint("the erase ", erase), nil, noSpares)
+		x.commits(change(1, "a"), change(2, "b"))
+		x.fences(1)
+		x.chips[1].Fail(false, erase)
+		want(t, x.what, x.m.Renew(1), api.ErrWorn)
+		x.tells("behind it", 1, 3)
+		x.joins(1)
+		x.commits(change(3, "c"))
+		x.is(4, nodes{1: "a", 2: "b", 3: "c"})
+	}
+}
+
 // P14.5: the errors of Join, in their order, by which nothing changes.
 func TestJoinErrors(t *testing.T) {
 	x := made(t, "errors")
