@@ -1,6 +1,7 @@
 package store
 
 import (
+	"bytes"
 	"slices"
 
 	"keelson/api"
@@ -18,19 +19,22 @@ func (s *Store) Refresh() api.Errno {
 	if e := s.ready(); e != api.OK {
 		return e
 	}
-	// What is written here is looked at, too: a page may have had a turned bit ahead of that.
-	for at, ok := s.behind(nil); ok; at, ok = s.behind(&at) {
-		if e := s.renew(at.Block); e != api.OK {
-			return e
-		}
-	}
+	// Both ahead of the segments: where one can't be read it doesn't count any more then, so that all else there is written anew, too.
 	if s.commitAt != nowhere && !s.commitStands() {
 		if e := s.again(s.putCommit); e != api.OK {
 			return e
 		}
 	}
 	if s.viewAt != nowhere && !s.viewStands() {
-		return s.again(s.putView)
+		if e := s.again(s.putView); e != api.OK {
+			return e
+		}
+	}
+	// What is written here is looked at, too: a page may have had a turned bit ahead of that.
+	for at, ok := s.behind(nil); ok; at, ok = s.behind(&at) {
+		if e := s.renew(at.Block); e != api.OK {
+			return e
+		}
 	}
 	return api.OK
 }
@@ -53,16 +57,32 @@ func (s *Store) behind(one *api.Segment) (api.Segment, bool) {
 	return list[i], true
 }
 
-// renew writes what counts in a segment anew, if a bit of it must be mended, and drops it.
+// renew writes what counts in a segment anew, if a page of it isn't as it was written, and drops it.
 func (s *Store) renew(block int) api.Errno {
-	bits, e := s.Mend(block)
+	clean, e := s.isClean(block)
 	if e != api.OK {
 		return e
 	}
-	if bits == 0 && s.hasHead(block) || !s.isWhole(block) {
+	if clean && s.hasHead(block) || !s.isWhole(block) {
 		return api.OK
 	}
 	return s.vacate(block)
+}
+
+// isClean tells whether each page of a block holds a record, or nothing, bit by bit.
+func (s *Store) isClean(block int) (bool, api.Errno) {
+	// Not only of records: a page that is still to be written may get one over a turned bit, if the power goes then, and one whose writing broke off would be read in the end, if enough bits turned.
+	for page := range api.BlockPages {
+		p, e := s.Read(block, page)
+		if e != api.OK {
+			return false, e
+		}
+		_, _, mended, e := frame.Read(p)
+		if mended > 0 || e != api.OK && bytes.Count(p[:], []byte{255}) < len(p) {
+			return false, api.OK
+		}
+	}
+	return true, api.OK
 }
 
 // hasHead tells whether a segment's head can be read: without it Open would take the segment for a free block.

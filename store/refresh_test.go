@@ -258,8 +258,8 @@ func TestRefreshCommitAndView(t *testing.T) {
 	}
 }
 
-// P11.4a: a segment in which the last commit, or the view, can't be read stays, too; what it holds of them doesn't count any more behind that.
-func TestRefreshCommitStays(t *testing.T) {
+// P11.4a: ahead of the segments, so that the one in which it can't be read is no exception.
+func TestRefreshCommitIsNoBar(t *testing.T) {
 	for _, commit := range []bool{true, false} {
 		c, s, p := lived(t)
 		at := viewsAt(s, p.view)[0]
@@ -270,15 +270,10 @@ func TestRefreshCommitStays(t *testing.T) {
 		flip(t, c, at, 40, 41)
 		flip(t, c, api.Place{Block: at.Block, Page: 0}, 40)
 		want(t, "Refresh", s.Refresh(), api.OK)
-		if seqOf(s, at.Block) != seq {
-			t.Error("the segment is gone")
-		}
-		p.holds(t, "Refresh", c, s)
-		want(t, "Refresh", s.Refresh(), api.OK)
 		if seqOf(s, at.Block) == seq || mends(t, s) != 0 {
 			t.Error("the segment stays")
 		}
-		p.holds(t, "Refresh again", c, s)
+		p.holds(t, "Refresh", c, s)
 	}
 }
 
@@ -319,6 +314,53 @@ func TestRefreshHead(t *testing.T) {
 	}
 	want(t, "Refresh", s.Refresh(), api.OK)
 	p.holds(t, "heads", c, s)
+}
+
+// P11.6: a page that is still to be written, of which a bit has turned, isn't left: what is written there as the power goes would have two turned bits with the next one.
+func TestRefreshBlankPage(t *testing.T) {
+	c, s := formatted(t, 16)
+	p := newPlain().commits(t, s, change(1, "a"))
+	last := commitsAt(s, 1)[0]
+	// The bit is 1 in a commit's record, whose turn it is behind a node's.
+	flip(t, c, api.Place{Block: last.Block, Page: last.Page + 2}, 0)
+	want(t, "Refresh", s.Refresh(), api.OK)
+	if seqOf(s, last.Block) != 0 {
+		t.Error("the segment stays")
+	}
+	p.holds(t, "Refresh", c, s)
+	acts := c.Count()
+	want(t, "Refresh again", s.Refresh(), api.OK)
+	if c.Count() != acts {
+		t.Error("there was nothing to be done")
+	}
+	c.Cut(1, 258)
+	want(t, "Commit", s.Commit(2, change(1, "b")), api.ErrDown)
+	c.On()
+	p = p.commit(2, change(1, "b"))
+	turned(&stage{t: t, c: c})
+	p.is(t, "the power went", opened(t, "the power went", c))
+}
+
+// P11.6: a page whose writing broke off isn't left: it would be read once enough of its bits have turned.
+func TestRefreshTornPage(t *testing.T) {
+	for _, keep := range []int{100, 255, 256, 257} {
+		for key := range 40 {
+			c, s := formatted(t, 16)
+			p := newPlain().commits(t, s, change(key, "a"))
+			last := commitsAt(s, 1)[0]
+			torn := api.Place{Block: last.Block, Page: last.Page + 2}
+			c.Cut(1, keep)
+			want(t, "Commit", s.Commit(2, change(key, "b")), api.ErrDown)
+			c.On()
+			s = opened(t, "the power went", c)
+			for _, bit := range []int{2063, 2062, 2061} {
+				flip(t, c, torn, bit)
+				p.is(t, fmt.Sprintf("the bit %d, keep %d", bit, keep), opened(t, "turned", c))
+				want(t, "Refresh", s.Refresh(), api.OK)
+			}
+			p.holds(t, "Refresh", c, s)
+		}
+	}
 }
 
 // P11.4a: the errors of the disk.
