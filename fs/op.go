@@ -6,7 +6,7 @@ import (
 	"keelson/tree"
 )
 
-// do does an operation; what it answers beside an error is left to Do to leave out.
+// do does an operation; beside an error what it answers means nothing.
 func (f *FS) do(o api.Op) (a api.Answer, e api.Errno) {
 	kind := api.Dir
 	switch o.Kind {
