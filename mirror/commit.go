@@ -99,7 +99,7 @@ func (m *Mirror) commit(chip int, epoch uint64, changes []api.Change) api.Errno 
 	}
 	if s, ok := m.Store(chip); ok && m.Member(chip) {
 		if e := s.Commit(epoch, changes...); e != api.OK {
-			if e := m.expel(chip, e); e != api.OK {
+			if e := m.expel(chip, e, epoch); e != api.OK {
 				return e
 			}
 		}
@@ -107,12 +107,17 @@ func (m *Mirror) commit(chip int, epoch uint64, changes []api.Change) api.Errno 
 	return m.commit(chip+1, epoch, changes)
 }
 
-// expel fences a member out that answered an error, if it may be done without it; else the error is the answer.
-func (m *Mirror) expel(chip int, why api.Errno) api.Errno {
+// expel fences a member out that answered an error to the commit of an epoch, if it may be done without it; else the error is the answer.
+func (m *Mirror) expel(chip int, why api.Errno, epoch uint64) api.Errno {
 	other := 1 - chip
 	gone := why == api.ErrDead || why == api.ErrWorn
 	if !gone || !m.Member(other) || !m.Up(other) {
 		return why
 	}
-	return m.fence(other)
+	e := m.fence(other)
+	// What one that is alone has committed is what will be opened, also where it couldn't note that it is alone.
+	if e != api.ErrDown && !m.Member(chip) && m.Epoch() == epoch {
+		return api.OK
+	}
+	return e
 }

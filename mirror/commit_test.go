@@ -296,6 +296,35 @@ func TestCommitBothWorn(t *testing.T) {
 	x.is(2, nodes{1: "a"})
 }
 
+// P14.4, P14.7: a member that has committed, and is alone then, is OK also where it can't note that it is, but for ErrDown; what it has committed is what Open gives.
+func TestCommitNoteWorn(t *testing.T) {
+	for _, down := range []bool{false, true} {
+		x := made(t, fmt.Sprint("the note fails behind the commit, down: ", down), noSpares, noSpares)
+		x.commits(change(1, "a"))
+		x.chips[1].Fail(true, 0)
+		// The node and the commit of the chip 0, the node of the chip 1, the note.
+		if down {
+			x.p.Cut(3, 0)
+			want(t, x.what, x.m.Commit(change(2, "b")), api.ErrDown)
+			x.p.On()
+		} else {
+			x.chips[0].Fail(true, 2)
+			x.commits(change(2, "b"))
+		}
+		x.views(2, 1, 3)
+		if v, _ := opens(t, x.what, x.chips[0]).View(); v.Number != 1 {
+			t.Errorf("%s: the note is there: %v", x.what, v)
+		}
+		x.is(3, nodes{1: "a", 2: "b"})
+		x.open()
+		x.noted(0)
+		x.is(3, nodes{1: "a", 2: "b"})
+		x.commits(change(3, "c"))
+		x.is(4, nodes{1: "a", 2: "b", 3: "c"})
+		x.views(2, 1, 3)
+	}
+}
+
 // P14.4: the lead that can't note the fence: its error.
 func TestCommitFenceWorn(t *testing.T) {
 	x := made(t, "worn", nil, noSpares)
