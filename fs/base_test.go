@@ -1,10 +1,6 @@
 package fs_test
 
 import (
-	"bytes"
-	"fmt"
-	"math"
-	"slices"
 	"strings"
 	"testing"
 
@@ -14,31 +10,15 @@ import (
 	"keelson/mirror"
 	"keelson/nand"
 	"keelson/node"
+	"keelson/plain"
 	"keelson/view"
 )
-
-// odd are numbers at the edges of what an int holds, and of what means something.
-var odd = []int{math.MinInt, math.MinInt + 1, math.MinInt32, -7, -1, 0, 1, 6, 7, 127, 128, 129, 767, 768, 769, 1 << 32, 1<<32 + 1, math.MaxInt32, math.MaxInt - 1, math.MaxInt}
 
 // noSpares are blocks by which a chip has no spare.
 var noSpares = []int{4, 6, 9, 13}
 
 // keeps are amounts of an act that may be kept: pages of an erase, bytes of a program.
 var keeps = []int{-1, 0, 1, 5, 8, 130, 256, 257, 258}
-
-// text gives so many bytes, none of which is 0, of a kind.
-func text(n, kind int) []byte {
-	b := make([]byte, n)
-	for i := range b {
-		b[i] = byte(1 + (i*7+i/128+kind*31)%255)
-	}
-	return b
-}
-
-// same tells whether two answers are one.
-func same(a, b api.Answer) bool {
-	return a.Code == b.Code && a.N == b.N && a.Kind == b.Kind && bytes.Equal(a.Data, b.Data) && slices.Equal(a.Names, b.Names)
-}
 
 // op gives an operation on paths.
 func op(kind int, paths ...string) api.Op {
@@ -60,7 +40,7 @@ type scene struct {
 	chips [2]*nand.Chip
 	m     *mirror.Mirror
 	f     *fs.FS
-	plain *plain
+	plain *plain.Tree
 }
 
 // bare gives two blank chips of so many blocks with a mirror over them, without files.
@@ -83,17 +63,17 @@ func made(t *testing.T, what string, blocks int, bad ...[]int) *scene {
 	x := bare(t, what, blocks, bad...)
 	f, e := fs.Format(x.m)
 	x.want("Format", e, api.OK)
-	x.holding(f, empty)
+	x.holding(f, plain.Empty())
 	return x
 }
 
 // holding lets files be the scene's, that should hold a tree.
-func (x *scene) holding(f *fs.FS, k kept) {
+func (x *scene) holding(f *fs.FS, k plain.Kept) {
 	x.t.Helper()
 	if f == nil {
 		x.t.Fatalf("%s: no files are given", x.what)
 	}
-	x.f, x.plain = f, newPlain(k, f.Limit)
+	x.f, x.plain = f, plain.New(k, f.Limit)
 }
 
 // blank gives a blank chip with the scene's power.
@@ -113,7 +93,7 @@ func (x *scene) want(what string, got, e api.Errno) {
 }
 
 // opens Opens the mirror, and Mounts it; what it should hold is the tree behind the last OpSync.
-func (x *scene) opens(k kept) {
+func (x *scene) opens(k plain.Kept) {
 	x.t.Helper()
 	x.reopens()
 	f, e := fs.Mount(x.m)
@@ -143,8 +123,8 @@ func (x *scene) acts() int { return x.chips[0].Count() + x.chips[1].Count() }
 // does does an operation, and tells of an answer that isn't that of the tree in memory; the answer.
 func (x *scene) does(o api.Op) api.Answer {
 	x.t.Helper()
-	a, want := x.f.Do(o), x.plain.do(o)
-	if !same(a, want) {
+	a, want := x.f.Do(o), x.plain.Do(o)
+	if !plain.Same(a, want) {
 		x.t.Fatalf("%s: %v: %v, not %v", x.what, o, a, want)
 	}
 	return a
@@ -169,26 +149,16 @@ func (x *scene) oks(list ...api.Op) {
 }
 
 // syncs does an OpSync, which must be OK, and gives what is kept then.
-func (x *scene) syncs() kept {
+func (x *scene) syncs() plain.Kept {
 	x.t.Helper()
 	x.oks(op(api.OpSync))
-	return x.plain.kept()
+	return x.plain.Kept()
 }
 
 // walks looks at all that is there, by operations.
 func (x *scene) walks() {
 	x.t.Helper()
-	for path, thing := range x.plain.at {
-		if path == "" {
-			path = "/"
-		}
-		x.does(op(api.OpStat, path))
-		x.does(op(api.OpList, path))
-		if a := x.does(op(api.OpOpen, path)); thing.kind == api.File && a.Code == api.OK {
-			x.does(api.Op{Kind: api.OpRead, H: a.N, N: math.MaxInt})
-			x.does(api.Op{Kind: api.OpClose, H: a.N})
-		}
-	}
+	x.plain.Walk(x.does)
 }
 
 // files makes a file of these bytes at a path, and leaves its handle open.
@@ -205,43 +175,9 @@ func (x *scene) grows() {
 	x.t.Helper()
 	x.oks(op(api.OpMkdir, "/d"), op(api.OpMkdir, "/d/e"), op(api.OpMkdir, "/z"))
 	for i, path := range []string{"/f", "/d/g", "/d/e/h"} {
-		h := x.files(path, text(100+150*i, i))
+		h := x.files(path, plain.Text(100+150*i, i))
 		x.oks(api.Op{Kind: api.OpClose, H: h})
 	}
-}
-
-// read gives the tree that files without handles hold; what can't be read is told with its error.
-func read(f *fs.FS) kept {
-	k := kept{}
-	var walk func(path string)
-	walk = func(path string) {
-		full := path
-		if path == "" {
-			full = "/"
-		}
-		stat, list := f.Do(op(api.OpStat, full)), f.Do(op(api.OpList, full))
-		switch {
-		case stat.Code != api.OK:
-			k[path] = fmt.Sprint("?", stat)
-		case stat.Kind == api.Dir:
-			k[path] = "d"
-			if stat.N != len(list.Names) || list.Code != api.OK {
-				k[path] = fmt.Sprint("?", stat, list)
-			}
-		default:
-			h := f.Do(op(api.OpOpen, path))
-			a := f.Do(api.Op{Kind: api.OpRead, H: h.N, N: math.MaxInt})
-			k[path] = "f" + string(a.Data)
-			if done := f.Do(api.Op{Kind: api.OpClose, H: h.N}); h.N != 1 || a.Code != api.OK || a.N != stat.N || done.Code != api.OK {
-				k[path] = fmt.Sprint("?", stat, h, a, done)
-			}
-		}
-		for _, name := range list.Names {
-			walk(path + "/" + name)
-		}
-	}
-	walk("")
-	return k
 }
 
 // spoil turns two bits of each record of a node, of any epoch, on a chip.

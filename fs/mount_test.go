@@ -7,6 +7,7 @@ import (
 	"keelson/api"
 	"keelson/fs"
 	"keelson/mirror"
+	"keelson/plain"
 	"keelson/view"
 )
 
@@ -27,15 +28,15 @@ func TestExample(t *testing.T) {
 			t.Error(h)
 		}
 		x.oks(write(1, 0, []byte("hi")))
-		want := empty
+		want := plain.Empty()
 		if sync {
 			x.syncs()
-			want = kept{"": "d", "/f": "fhi"}
+			want["/f"] = plain.Item{Kind: api.File, Data: "hi"}
 		}
 		for range 2 {
 			f, e := fs.Mount(x.m)
 			x.want("Mount", e, api.OK)
-			if got := read(f); !maps.Equal(got, want) {
+			if got := plain.Read(f.Do); !maps.Equal(got, want) {
 				t.Errorf("%v: %q", sync, got)
 			}
 			x.reopens()
@@ -96,7 +97,7 @@ func TestMountTop(t *testing.T) {
 		{op(api.OpUnlink, "/"), api.Answer{Code: api.ErrArg}},
 		{op(api.OpSync), api.Answer{}},
 	} {
-		if a := f.Do(c.o); !same(a, c.want) {
+		if a := f.Do(c.o); !plain.Same(a, c.want) {
 			t.Errorf("%v: %v, not %v", c.o, a, c.want)
 		}
 	}
@@ -107,7 +108,7 @@ func TestMount(t *testing.T) {
 	x := made(t, "Mount", 16)
 	x.grows()
 	k := x.syncs()
-	x.files("/not kept", text(9, 9))
+	x.files("/not kept", plain.Text(9, 9))
 	x.codes(api.OK, op(api.OpOpen, "/f"))
 	acts, epoch := x.acts(), x.m.Epoch()
 	elder, was := x.f, x.plain
@@ -174,7 +175,7 @@ func TestFormatCut(t *testing.T) {
 			f, e := fs.Format(x.m)
 			x.p.On()
 			if e == api.OK {
-				x.holding(f, empty)
+				x.holding(f, plain.Empty())
 				if after < 4 {
 					t.Errorf("%d acts", after)
 				}
@@ -185,14 +186,14 @@ func TestFormatCut(t *testing.T) {
 				x.reopens()
 			}
 			if f, e = fs.Mount(x.m); e == api.OK {
-				x.holding(f, empty)
+				x.holding(f, plain.Empty())
 				x.walks()
 			} else {
 				x.fails("behind the cut", fs.Mount, api.ErrNone)
 			}
 			f, e = fs.Format(x.m)
 			x.want("Format again", e, api.OK)
-			x.holding(f, empty)
+			x.holding(f, plain.Empty())
 			x.grows()
 			x.opens(x.syncs())
 		}
@@ -208,7 +209,7 @@ func TestFormat(t *testing.T) {
 	if x.acts() != acts {
 		t.Error("something isn't kept")
 	}
-	x.opens(empty)
+	x.opens(plain.Empty())
 	x.grows()
 	x.syncs()
 	epoch := x.m.Epoch()
@@ -217,13 +218,13 @@ func TestFormat(t *testing.T) {
 	if x.m.Epoch() != epoch+1 {
 		t.Errorf("the epoch %d behind %d", x.m.Epoch(), epoch)
 	}
-	if got := read(f); !maps.Equal(got, empty) {
+	if got := plain.Read(f.Do); !maps.Equal(got, plain.Empty()) {
 		t.Error(got)
 	}
 	x.reopens()
 	f, e = fs.Mount(x.m)
 	x.want("Mount", e, api.OK)
-	if got := read(f); !maps.Equal(got, empty) {
+	if got := plain.Read(f.Do); !maps.Equal(got, plain.Empty()) {
 		t.Error(got)
 	}
 }
@@ -275,7 +276,7 @@ func TestOnesOwn(t *testing.T) {
 	one.codes(api.OK, op(api.OpOpen, "/f"))
 	two.walks()
 	two.codes(api.ErrHandle, api.Op{Kind: api.OpClose, H: 1})
-	two.files("/f", text(700, 5))
+	two.files("/f", plain.Text(700, 5))
 	two.syncs()
 	one.walks()
 	one.syncs()

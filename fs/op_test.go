@@ -11,6 +11,7 @@ import (
 	"keelson/api"
 	"keelson/fs"
 	"keelson/mirror"
+	"keelson/plain"
 	"keelson/resync"
 )
 
@@ -24,7 +25,7 @@ func (x *scene) asks(what string, e api.Errno) {
 		for _, path := range []string{"/d", "/f", "/none", "/", "", "/d/new"} {
 			for _, h := range []int{1, 2, -1} {
 				o := api.Op{Kind: kind, Path: path, To: "/to", H: h, N: 1, Data: []byte("x")}
-				if a := x.f.Do(o); !same(a, api.Answer{Code: e}) {
+				if a := x.f.Do(o); !plain.Same(a, api.Answer{Code: e}) {
 					x.t.Errorf("%s: %v: %v, not %v alone", what, o, a, e)
 				}
 			}
@@ -101,13 +102,13 @@ func TestPaths(t *testing.T) {
 		x.walks()
 	}
 	for kind := api.OpCreate; kind < api.OpSync; kind++ {
-		for _, path := range wrongPaths {
+		for _, path := range plain.WrongPaths() {
 			if kind <= api.OpOpen || kind >= api.OpRename {
 				x.codes(api.ErrName, op(kind, path, "/x"))
 			}
 		}
 	}
-	for _, path := range wrongPaths {
+	for _, path := range plain.WrongPaths() {
 		x.codes(api.ErrName, op(api.OpRename, "/f", path))
 		x.codes(api.ErrName, op(api.OpRename, "/n", path))
 	}
@@ -128,7 +129,7 @@ func TestStatAndList(t *testing.T) {
 	}{
 		{"/", api.Dir, 3, "d f z"}, {"/d", api.Dir, 2, "e g"}, {"/z", api.Dir, 0, ""}, {"/f", api.File, 100, ""}, {"/d/g", api.File, 250, ""}, {"/d/e/h", api.File, 400, ""},
 	} {
-		if a := x.codes(api.OK, op(api.OpStat, c.path)); !same(a, api.Answer{Kind: c.kind, N: c.n}) {
+		if a := x.codes(api.OK, op(api.OpStat, c.path)); !plain.Same(a, api.Answer{Kind: c.kind, N: c.n}) {
 			t.Errorf("%s: %v", c.path, a)
 		}
 		if c.kind == api.Dir {
@@ -168,24 +169,24 @@ func TestMany(t *testing.T) {
 func TestLimit(t *testing.T) {
 	x := made(t, "limit", 16)
 	limit := x.f.Limit()
-	for i := 0; x.plain.nodes() < limit-1; i++ {
-		h := x.files(fmt.Sprint("/", i), text(min(768, 128*(limit-2-x.plain.nodes())), i))
+	for i := 0; x.plain.Nodes() < limit-1; i++ {
+		h := x.files(fmt.Sprint("/", i), plain.Text(min(768, 128*(limit-2-x.plain.Nodes())), i))
 		x.oks(api.Op{Kind: api.OpClose, H: h})
 	}
 	h := x.codes(api.OK, op(api.OpOpen, "/0")).N
 	x.codes(api.OK, op(api.OpCreate, "/last"))
 	g := x.codes(api.OK, op(api.OpOpen, "/last")).N
-	if x.plain.nodes() != limit {
-		t.Fatal(x.plain.nodes(), limit)
+	if x.plain.Nodes() != limit {
+		t.Fatal(x.plain.Nodes(), limit)
 	}
 	for range 2 {
 		for _, o := range []api.Op{op(api.OpCreate, "/n"), op(api.OpMkdir, "/n"), write(g, 0, []byte("x")), write(g, 640, []byte("x")), {Kind: api.OpTruncate, H: g, N: 1}} {
 			x.codes(api.ErrNoSpace, o)
 			x.walks()
 		}
-		x.oks(write(g, 0, nil), write(h, 0, text(768, 9)), op(api.OpRename, "/last", "/first"), op(api.OpRename, "/first", "/last"), op(api.OpSync))
+		x.oks(write(g, 0, nil), write(h, 0, plain.Text(768, 9)), op(api.OpRename, "/last", "/first"), op(api.OpRename, "/first", "/last"), op(api.OpSync))
 	}
-	x.oks(api.Op{Kind: api.OpTruncate, H: h, N: 640}, write(g, 0, text(128, 3)))
+	x.oks(api.Op{Kind: api.OpTruncate, H: h, N: 640}, write(g, 0, plain.Text(128, 3)))
 	x.codes(api.ErrNoSpace, write(g, 128, []byte("x")))
 	x.walks()
 	x.opens(x.syncs())
@@ -195,7 +196,7 @@ func TestLimit(t *testing.T) {
 func TestHandles(t *testing.T) {
 	x := made(t, "handles", 16)
 	x.grows()
-	for _, h := range odd {
+	for _, h := range plain.Odd() {
 		for _, kind := range []int{api.OpClose, api.OpRead, api.OpWrite, api.OpTruncate} {
 			x.codes(api.ErrHandle, api.Op{Kind: kind, H: h, Off: -1, N: -1, Data: []byte("x")})
 		}
@@ -238,7 +239,7 @@ func TestBusy(t *testing.T) {
 	x.oks(op(api.OpRename, "/d", "/z/d"))
 	x.codes(api.ErrBusy, op(api.OpUnlink, "/z/d/e/f"))
 	x.codes(api.ErrNotDir, op(api.OpRmdir, "/z/d/e/f"))
-	x.oks(write(1, 90, text(99, 7)), op(api.OpSync), op(api.OpCreate, "/f"), op(api.OpUnlink, "/f"))
+	x.oks(write(1, 90, plain.Text(99, 7)), op(api.OpSync), op(api.OpCreate, "/f"), op(api.OpUnlink, "/f"))
 	x.codes(api.OK, api.Op{Kind: api.OpRead, H: 3, N: 999})
 	x.oks(api.Op{Kind: api.OpClose, H: 1})
 	x.codes(api.ErrBusy, op(api.OpUnlink, "/z/d/e/f"))
@@ -257,13 +258,13 @@ func TestBytes(t *testing.T) {
 	t.Parallel()
 	for _, size := range []int{0, 1, 127, 128, 129, 300, 640, 767, 768} {
 		x := made(t, fmt.Sprint("a file of ", size), 16)
-		h := x.files("/f", text(size, size))
-		x.does(write(h, 0, text(size, 1)))
-		for _, off := range append([]int{size - 1, size, size + 1, 200, 300}, odd...) {
-			for _, n := range append([]int{size, size + 1, 2, 200, 300}, odd...) {
+		h := x.files("/f", plain.Text(size, size))
+		x.does(write(h, 0, plain.Text(size, 1)))
+		for _, off := range append([]int{size - 1, size, size + 1, 200, 300}, plain.Odd()...) {
+			for _, n := range append([]int{size, size + 1, 2, 200, 300}, plain.Odd()...) {
 				x.does(api.Op{Kind: api.OpRead, H: h, Off: off, N: n})
 				x.does(api.Op{Kind: api.OpTruncate, H: h, N: n})
-				x.does(write(h, off, text(max(0, min(n, 800)), 3)))
+				x.does(write(h, off, plain.Text(max(0, min(n, 800)), 3)))
 				x.does(op(api.OpStat, "/f"))
 				x.does(api.Op{Kind: api.OpRead, H: h, N: 999})
 				x.does(api.Op{Kind: api.OpTruncate, H: h, N: size})
@@ -299,7 +300,7 @@ func TestReadAndWrite(t *testing.T) {
 		{api.Op{Kind: api.OpRead, H: 1, Off: 129, N: 9}, api.Answer{N: 4, Data: []byte("\x00a\x00\x00")}},
 		{api.Op{Kind: api.OpRead, H: 2, N: 9}, api.Answer{Code: api.ErrHandle}},
 	} {
-		if a := x.does(c.o); !same(a, c.want) {
+		if a := x.does(c.o); !plain.Same(a, c.want) {
 			t.Errorf("%v: %v, not %v", c.o, a, c.want)
 		}
 	}
@@ -337,7 +338,7 @@ func TestSync(t *testing.T) {
 	x.oks(op(api.OpStat, "/"), op(api.OpList, "/d"), op(api.OpOpen, "/f"), write(1, 5, nil), api.Op{Kind: api.OpRead, H: 1, N: 9}, op(api.OpRename, "/f", "/f"))
 	x.codes(api.ErrNone, op(api.OpUnlink, "/n"))
 	x.codes(api.ErrNotEmpty, op(api.OpRmdir, "/d"))
-	x.codes(api.ErrBig, write(1, 700, text(69, 1)))
+	x.codes(api.ErrBig, write(1, 700, plain.Text(69, 1)))
 	x.codes(api.ErrExists, op(api.OpCreate, "/f"))
 	syncs("nothing is changed", 0)
 	for _, o := range []api.Op{op(api.OpMkdir, "/y"), op(api.OpCreate, "/y/f"), write(1, 5, []byte("x")), {Kind: api.OpTruncate, H: 1, N: 130}, op(api.OpRename, "/f", "/g"), op(api.OpUnlink, "/y/f"), op(api.OpRmdir, "/y")} {
@@ -349,13 +350,13 @@ func TestSync(t *testing.T) {
 }
 
 // opened tells unless a mirror that is opened anew holds a tree, and leaves the scene's files as they are.
-func (x *scene) opened(k kept) {
+func (x *scene) opened(k plain.Kept) {
 	x.t.Helper()
 	m, e := mirror.Open(x.tie, x.chips[0], x.chips[1])
 	x.want("Open", e, api.OK)
 	f, e := fs.Mount(m)
 	x.want("Mount", e, api.OK)
-	if got := read(f); !maps.Equal(got, k) {
+	if got := plain.Read(f.Do); !maps.Equal(got, k) {
 		x.t.Fatalf("%s: what is kept is %q, not %q", x.what, got, k)
 	}
 }
@@ -367,7 +368,7 @@ func TestSyncFails(t *testing.T) {
 	k := x.syncs()
 	x.oks(op(api.OpUnlink, "/f"), op(api.OpOpen, "/d/g"), write(1, 200, []byte("more")))
 	x.p.Cut(0, 0)
-	if a := x.f.Do(op(api.OpSync)); !same(a, api.Answer{Code: api.ErrDown}) {
+	if a := x.f.Do(op(api.OpSync)); !plain.Same(a, api.Answer{Code: api.ErrDown}) {
 		t.Error(a)
 	}
 	x.p.On()
@@ -381,7 +382,7 @@ func TestSyncFails(t *testing.T) {
 	x.oks(op(api.OpUnlink, "/f"), op(api.OpOpen, "/d/g"), write(1, 200, []byte("more")))
 	x.chips[0].Fail(true, 0)
 	x.chips[1].Fail(true, 0)
-	if a := x.f.Do(op(api.OpSync)); !same(a, api.Answer{Code: api.ErrWorn}) {
+	if a := x.f.Do(op(api.OpSync)); !plain.Same(a, api.Answer{Code: api.ErrWorn}) {
 		t.Error(a)
 	}
 	x.walks()
@@ -397,8 +398,8 @@ func TestSyncNoSpace(t *testing.T) {
 	x.chips[1] = x.blank(16)
 	x.f.Replace(1, x.chips[1])
 	limit := x.f.Limit()
-	for i := 0; x.plain.nodes() < limit; i++ {
-		x.files(fmt.Sprint("/z/", i), text(min(768, 128*(limit-1-x.plain.nodes())), i))
+	for i := 0; x.plain.Nodes() < limit; i++ {
+		x.files(fmt.Sprint("/z/", i), plain.Text(min(768, 128*(limit-1-x.plain.Nodes())), i))
 	}
 	back := resync.New(x.m)
 	for done := false; !done; {
@@ -414,7 +415,7 @@ func TestSyncNoSpace(t *testing.T) {
 	x.codes(api.ErrNoSpace, op(api.OpCreate, "/x"))
 	x.oks(op(api.OpRename, "/f", "/x"))
 	x.walks()
-	for h := 1; h <= 6 && x.plain.nodes() > x.f.Limit(); h++ {
+	for h := 1; h <= 6 && x.plain.Nodes() > x.f.Limit(); h++ {
 		x.codes(api.ErrNoSpace, op(api.OpSync))
 		x.does(api.Op{Kind: api.OpTruncate, H: h})
 	}
@@ -443,16 +444,16 @@ func TestCorrupt(t *testing.T) {
 		{Kind: api.OpRead, H: 1, N: 1}, write(1, 0, []byte("x")), write(1, -1, nil), {Kind: api.OpTruncate, H: 1, N: -1},
 		{Kind: api.OpRead, H: 2, Off: 100, N: 40}, write(2, 130, []byte("x")), {Kind: api.OpTruncate, H: 2, N: 130},
 	} {
-		if a := x.f.Do(o); !same(a, api.Answer{Code: api.ErrCorrupt}) {
+		if a := x.f.Do(o); !plain.Same(a, api.Answer{Code: api.ErrCorrupt}) {
 			t.Errorf("%v: %v", o, a)
 		}
 	}
-	x.oks(api.Op{Kind: api.OpRead, H: 2, N: 128}, op(api.OpStat, "/d/g"), op(api.OpList, "/d/e"), op(api.OpRename, "/d/g", "/g"), write(2, 128, text(122, 4)), api.Op{Kind: api.OpRead, H: 2, N: 999}, op(api.OpSync), api.Op{Kind: api.OpRead, H: 2, N: 999}, api.Op{Kind: api.OpClose, H: 2}, op(api.OpUnlink, "/g"), op(api.OpSync))
+	x.oks(api.Op{Kind: api.OpRead, H: 2, N: 128}, op(api.OpStat, "/d/g"), op(api.OpList, "/d/e"), op(api.OpRename, "/d/g", "/g"), write(2, 128, plain.Text(122, 4)), api.Op{Kind: api.OpRead, H: 2, N: 999}, op(api.OpSync), api.Op{Kind: api.OpRead, H: 2, N: 999}, api.Op{Kind: api.OpClose, H: 2}, op(api.OpUnlink, "/g"), op(api.OpSync))
 	x.spoil(0, 8)
 	x.spoil(1, 8)
 	x.fails("the top", fs.Mount, api.ErrCorrupt)
 	for _, kind := range []int{api.OpCreate, api.OpMkdir, api.OpOpen, api.OpUnlink, api.OpRmdir, api.OpRename, api.OpStat, api.OpList} {
-		if a := x.f.Do(op(kind, "/z", "/y")); !same(a, api.Answer{Code: api.ErrCorrupt}) {
+		if a := x.f.Do(op(kind, "/z", "/y")); !plain.Same(a, api.Answer{Code: api.ErrCorrupt}) {
 			t.Errorf("%d: %v", kind, a)
 		}
 	}
@@ -461,7 +462,7 @@ func TestCorrupt(t *testing.T) {
 // P23.5: what is handed in isn't changed, its spare room neither, and isn't kept.
 func TestHandedIn(t *testing.T) {
 	x := made(t, "handed in", 16)
-	room := text(900, 2)
+	room := plain.Text(900, 2)
 	was := slices.Clone(room)
 	x.oks(op(api.OpCreate, "/f"), op(api.OpOpen, "/f"))
 	for _, o := range []api.Op{write(1, 3, room[10:500]), write(1, 300, room[:0]), write(1, 100, room[200:201]), write(1, 700, room)} {
@@ -479,7 +480,7 @@ func TestHandedIn(t *testing.T) {
 func TestAnswers(t *testing.T) {
 	x := made(t, "answers", 20)
 	x.grows()
-	x.files("/g", text(700, 4))
+	x.files("/g", plain.Text(700, 4))
 	for range 2 {
 		for range 2 {
 			for _, o := range []api.Op{{Kind: api.OpRead, H: 1, N: 999}, {Kind: api.OpRead, H: 1, Off: 128, N: 128}, op(api.OpList, "/"), op(api.OpList, "/d")} {
@@ -496,7 +497,7 @@ func TestAnswers(t *testing.T) {
 	if b.Names[0] == "other" {
 		t.Error("two answers share their names")
 	}
-	x.opens(x.plain.kept())
+	x.opens(x.plain.Kept())
 }
 
 // P23.3: the chips may be of any numbers of blocks, and have bad ones; the Limit is the lesser one's.
@@ -513,14 +514,14 @@ func TestBlocks(t *testing.T) {
 					x.does(op(api.OpMkdir, path))
 				} else if x.does(op(api.OpCreate, path)).Code == api.OK {
 					h := x.does(op(api.OpOpen, path)).N
-					x.does(write(h, i, text(768-i, j)))
+					x.does(write(h, i, plain.Text(768-i, j)))
 					x.does(api.Op{Kind: api.OpClose, H: h})
 				}
 			}
 			x.opens(x.syncs())
 		}
-		if x.plain.nodes() < x.m.Limit()-7 {
-			t.Errorf("%s: %d nodes of %d", x.what, x.plain.nodes(), x.m.Limit())
+		if x.plain.Nodes() < x.m.Limit()-7 {
+			t.Errorf("%s: %d nodes of %d", x.what, x.plain.Nodes(), x.m.Limit())
 		}
 	}
 }

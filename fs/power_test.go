@@ -8,6 +8,7 @@ import (
 	"keelson/api"
 	"keelson/fs"
 	"keelson/mirror"
+	"keelson/plain"
 	"keelson/resync"
 	"keelson/scrub"
 )
@@ -23,8 +24,8 @@ func changes() []change {
 	return []change{
 		{"nothing", func(*scene) {}},
 		{"a directory", func(x *scene) { x.oks(op(api.OpMkdir, "/z/y")) }},
-		{"bytes", func(x *scene) { x.oks(op(api.OpOpen, "/d/g"), write(1, 100, text(100, 8))) }},
-		{"more bytes", func(x *scene) { x.oks(op(api.OpOpen, "/f"), write(1, 200, text(500, 8))) }},
+		{"bytes", func(x *scene) { x.oks(op(api.OpOpen, "/d/g"), write(1, 100, plain.Text(100, 8))) }},
+		{"more bytes", func(x *scene) { x.oks(op(api.OpOpen, "/f"), write(1, 200, plain.Text(500, 8))) }},
 		{"fewer bytes", func(x *scene) { x.oks(op(api.OpOpen, "/d/e/h"), api.Op{Kind: api.OpTruncate, H: 1, N: 130}) }},
 		{"names", func(x *scene) {
 			x.oks(op(api.OpRename, "/d/e", "/z/e"), op(api.OpRename, "/f", "/d/f"), op(api.OpRename, "/z/e/h", "/h"))
@@ -33,15 +34,15 @@ func changes() []change {
 			x.oks(op(api.OpUnlink, "/f"), op(api.OpUnlink, "/d/g"), op(api.OpUnlink, "/d/e/h"), op(api.OpRmdir, "/d/e"), op(api.OpRmdir, "/d"), op(api.OpRmdir, "/z"))
 		}},
 		{"all is new", func(x *scene) {
-			x.oks(op(api.OpUnlink, "/f"), op(api.OpRename, "/d/g", "/f"), op(api.OpOpen, "/f"), write(1, 0, text(250, 7)), op(api.OpUnlink, "/d/e/h"))
+			x.oks(op(api.OpUnlink, "/f"), op(api.OpRename, "/d/g", "/f"), op(api.OpOpen, "/f"), write(1, 0, plain.Text(250, 7)), op(api.OpUnlink, "/d/e/h"))
 			x.oks(op(api.OpRename, "/d/e", "/e"), op(api.OpRmdir, "/z"))
-			x.oks(write(x.files("/e/h", text(768, 6)), 9, text(9, 9)))
+			x.oks(write(x.files("/e/h", plain.Text(768, 6)), 9, plain.Text(9, 9)))
 		}},
 	}
 }
 
 // grown gives a scene with files that are kept, that are a few OpSyncs old.
-func grown(t *testing.T, what string) (*scene, kept) {
+func grown(t *testing.T, what string) (*scene, plain.Kept) {
 	t.Helper()
 	x := made(t, what, 16)
 	x.grows()
@@ -55,14 +56,14 @@ func grown(t *testing.T, what string) (*scene, kept) {
 const ways = 4
 
 // goesOn goes on behind a cut: what is there then must be among some trees, and one of them from then on, with either chip; and the files go on.
-func (x *scene) goesOn(way int, may ...kept) {
+func (x *scene) goesOn(way int, may ...plain.Kept) {
 	x.t.Helper()
 	x.p.On()
 	if way == 0 {
 		x.walks()
 		x.walks()
 		may = append(may, x.syncs())
-		x.opened(x.plain.kept())
+		x.opened(x.plain.Kept())
 		may = may[len(may)-1:]
 	}
 	without := way - 2
@@ -72,8 +73,8 @@ func (x *scene) goesOn(way int, may ...kept) {
 	x.reopens()
 	f, e := fs.Mount(x.m)
 	x.want("Mount", e, api.OK)
-	got := read(f)
-	if !got.in(may) {
+	got := plain.Read(f.Do)
+	if !got.In(may...) {
 		x.t.Fatalf("%s: %q, not one of %q", x.what, got, may)
 	}
 	x.opens(got)
@@ -102,7 +103,7 @@ func (x *scene) comesBack() {
 }
 
 // alone tells unless either chip alone has that tree; the chip 0 is fenced out then.
-func (x *scene) alone(k kept) {
+func (x *scene) alone(k plain.Kept) {
 	x.t.Helper()
 	for chip := range x.chips {
 		x.chips[1-chip].Put(false)
@@ -129,7 +130,7 @@ func TestCutInSync(t *testing.T) {
 				for after := 0; ; after++ {
 					x, ahead := grown(t, fmt.Sprintf("%s, Cut(%d, %d)", c.name, after, keep))
 					c.do(x)
-					behind := x.plain.kept()
+					behind := x.plain.Kept()
 					x.p.Cut(after, keep)
 					a := x.f.Do(op(api.OpSync))
 					if a.Code == api.OK {
@@ -137,7 +138,7 @@ func TestCutInSync(t *testing.T) {
 						x.opens(behind)
 						break
 					}
-					if !same(a, api.Answer{Code: api.ErrDown}) {
+					if !plain.Same(a, api.Answer{Code: api.ErrDown}) {
 						t.Fatalf("%s: %v", x.what, a)
 					}
 					x.asks("no power", api.ErrDown)
@@ -162,7 +163,7 @@ func TestCutInMount(t *testing.T) {
 					keep := keeps[(first+way+after)%len(keeps)]
 					x, ahead := grown(t, fmt.Sprintf("%s, Cut(%d), in the mount %d, Cut(%d, %d)", c.name, first, way, after, keep))
 					c.do(x)
-					behind := x.plain.kept()
+					behind := x.plain.Kept()
 					x.p.Cut(first, 77)
 					x.f.Do(op(api.OpSync))
 					x.p.On()
@@ -207,7 +208,7 @@ func TestCutInSteps(t *testing.T) {
 					x.fences(0)
 				}
 				ahead := x.syncs()
-				x.oks(op(api.OpUnlink, "/f"), op(api.OpOpen, "/d/g"), write(1, 99, text(200, 8)))
+				x.oks(op(api.OpUnlink, "/f"), op(api.OpOpen, "/d/g"), write(1, 99, plain.Text(200, 8)))
 				x.p.Cut(after, keep)
 				step := resync.New(x.m).Step
 				if kind == "a scrub" {
@@ -239,15 +240,15 @@ func TestCutAgain(t *testing.T) {
 	for first := range 14 {
 		for second := range 14 {
 			x, ahead := grown(t, fmt.Sprintf("Cut(%d), Cut(%d)", first, second))
-			may := []kept{ahead}
+			may := []plain.Kept{ahead}
 			for i, after := range []int{first, second} {
-				x.oks(op(api.OpOpen, "/d/g"), write(i+1, 60*i, text(100, i)), op(api.OpMkdir, fmt.Sprint("/", i)))
-				may = append(may, x.plain.kept())
+				x.oks(op(api.OpOpen, "/d/g"), write(i+1, 60*i, plain.Text(100, i)), op(api.OpMkdir, fmt.Sprint("/", i)))
+				may = append(may, x.plain.Kept())
 				x.p.Cut(after, keeps[(first+second)%len(keeps)])
 				a := x.f.Do(op(api.OpSync))
 				x.p.On()
 				if a.Code == api.OK {
-					x.plain.do(op(api.OpSync))
+					x.plain.Do(op(api.OpSync))
 					may = may[len(may)-1:]
 				}
 			}
@@ -265,7 +266,7 @@ func TestMountedLast(t *testing.T) {
 			for after := 0; ; after++ {
 				x, ahead := grown(t, fmt.Sprintf("the chip %d, Cut(%d, %d)", chip, after, keep))
 				x.oks(op(api.OpUnlink, "/f"))
-				behind := x.plain.kept()
+				behind := x.plain.Kept()
 				x.p.Cut(after, keep)
 				if x.f.Do(op(api.OpSync)).Code == api.OK {
 					break
@@ -275,8 +276,8 @@ func TestMountedLast(t *testing.T) {
 				x.reopens()
 				f, e := fs.Mount(x.m)
 				x.want("Mount", e, api.OK)
-				got := read(f)
-				if !got.in([]kept{ahead, behind}) {
+				got := plain.Read(f.Do)
+				if !got.In(ahead, behind) {
 					t.Fatalf("%s: %q", x.what, got)
 				}
 				if maps.Equal(got, ahead) {
@@ -294,7 +295,7 @@ func TestMountedLast(t *testing.T) {
 }
 
 // stays tells unless a tree that was Mounted with a chip alone stays, whatever the other chip has.
-func (x *scene) stays(chip int, k kept) {
+func (x *scene) stays(chip int, k plain.Kept) {
 	x.t.Helper()
 	x.chips[1-chip].Put(true)
 	x.opens(k)

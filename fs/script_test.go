@@ -4,8 +4,6 @@ import (
 	"fmt"
 	"maps"
 	"math/rand"
-	"slices"
-	"strings"
 	"testing"
 
 	"keelson/api"
@@ -13,6 +11,7 @@ import (
 	"keelson/mirror"
 	"keelson/nand"
 	"keelson/node"
+	"keelson/plain"
 	"keelson/resync"
 	"keelson/scrub"
 	"keelson/wear"
@@ -30,8 +29,8 @@ type script struct {
 	rand   *rand.Rand
 	back   *resync.Resync
 	scrub  *scrub.Scrub
-	storms bool   // whether the power goes now and then
-	may    []kept // what may be Mounted; one alone, if the power didn't go since the last OpSync that was OK, or Mount
+	storms bool         // whether the power goes now and then
+	may    []plain.Kept // what may be Mounted; one alone, if the power didn't go since the last OpSync that was OK, or Mount
 	fails  map[*nand.Chip]int
 	turned map[place]bool // the pages with a turned bit since the last pass
 	met    map[int]map[api.Errno]bool
@@ -41,7 +40,7 @@ type script struct {
 func newScript(t *testing.T, seed int64, storms bool) *script {
 	t.Helper()
 	r := rand.New(rand.NewSource(seed))
-	x := &script{rand: r, storms: storms, may: []kept{empty}, fails: map[*nand.Chip]int{}, turned: map[place]bool{}, met: map[int]map[api.Errno]bool{}}
+	x := &script{rand: r, storms: storms, may: []plain.Kept{plain.Empty()}, fails: map[*nand.Chip]int{}, turned: map[place]bool{}, met: map[int]map[api.Errno]bool{}}
 	x.scene = made(t, fmt.Sprint("seed ", seed), 16+r.Intn(9), []int{2 + r.Intn(14)})
 	x.anew()
 	return x
@@ -91,8 +90,8 @@ func (x *script) step() {
 func (x *script) ask(o api.Op) {
 	x.t.Helper()
 	x.note(o.Kind, o.Path, o.To, o.H, o.Off, o.N, len(o.Data))
-	a, want := x.f.Do(o), x.plain.do(o)
-	if !same(a, want) {
+	a, want := x.f.Do(o), x.plain.Do(o)
+	if !plain.Same(a, want) {
 		x.fatal(o, a, "not", want)
 	}
 	if x.met[o.Kind] == nil {
@@ -101,57 +100,8 @@ func (x *script) ask(o api.Op) {
 	x.met[o.Kind][a.Code] = true
 }
 
-// path gives a path, mostly one that is there, or one beneath one.
-func (x *script) path() string {
-	r, paths := x.rand, slices.Sorted(maps.Keys(x.plain.at))
-	path := paths[r.Intn(len(paths))]
-	if r.Intn(3) == 0 {
-		path = paths[0] // the top fills up
-	}
-	if r.Intn(3) == 0 {
-		path += "/" + string(rune('a'+r.Intn(10)))
-	}
-	switch {
-	case path == "":
-		return "/"
-	case r.Intn(40) == 0:
-		return wrongPaths[r.Intn(len(wrongPaths))]
-	}
-	return path
-}
-
-// number gives a number of bytes, or one that is none.
-func (x *script) number() int {
-	switch x.rand.Intn(8) {
-	case 0:
-		return odd[x.rand.Intn(len(odd))]
-	case 1:
-		return 128*x.rand.Intn(7) + x.rand.Intn(3) - 1
-	}
-	return x.rand.Intn(400)
-}
-
 // some gives an operation that isn't OpSync.
-func (x *script) some() api.Op {
-	r := x.rand
-	o := api.Op{Kind: api.OpCreate + r.Intn(api.OpSync-api.OpCreate), Path: x.path(), To: x.path(), H: 1 + r.Intn(3), Off: x.number(), N: x.number()}
-	switch r.Intn(10) {
-	case 0:
-		o.Kind = api.OpOpen
-	case 1, 2:
-		o.Kind = api.OpWrite
-	case 3:
-		o.Kind = []int{api.OpCreate, api.OpMkdir}[r.Intn(2)]
-		o.Path = strings.TrimSuffix(o.Path, "/") + "/" + string(rune('a'+r.Intn(10)))
-	}
-	if r.Intn(10) == 0 {
-		o.H = odd[r.Intn(len(odd))]
-	}
-	if r.Intn(10) > 0 {
-		o.Data = text(r.Intn(1+max(0, min(x.number(), 780))), r.Intn(99))
-	}
-	return o
-}
+func (x *script) some() api.Op { return x.plain.Some(x.rand.Intn) }
 
 // keeps does an OpSync.
 func (x *script) keeps() {
@@ -160,18 +110,18 @@ func (x *script) keeps() {
 	a := x.f.Do(op(api.OpSync))
 	x.note("OpSync", a, x.tie.Get())
 	if x.p.Off() {
-		if !same(a, api.Answer{Code: api.ErrDown}) {
+		if !plain.Same(a, api.Answer{Code: api.ErrDown}) {
 			x.fatal("OpSync answers", a)
 		}
-		x.may = append(x.may, x.plain.kept())
+		x.may = append(x.may, x.plain.Kept())
 		x.on()
 		return
 	}
-	if want := x.plain.do(op(api.OpSync)); !same(a, want) {
+	if want := x.plain.Do(op(api.OpSync)); !plain.Same(a, want) {
 		x.fatal("OpSync answers", a, "not", want)
 	}
 	if a.Code == api.OK {
-		x.may = []kept{x.plain.kept()}
+		x.may = []plain.Kept{x.plain.Kept()}
 	}
 }
 
@@ -242,11 +192,11 @@ func (x *script) mounts() {
 	if e != api.OK {
 		x.fatal("Mount answers", e)
 	}
-	got := read(f)
-	if !got.in(x.may) {
+	got := plain.Read(f.Do)
+	if !got.In(x.may...) {
 		x.fatal("mounted:", got, "not", x.may)
 	}
-	x.may = []kept{got}
+	x.may = []plain.Kept{got}
 	x.holding(f, got)
 	x.anew()
 }

@@ -11,6 +11,7 @@ import (
 	"keelson/fs"
 	"keelson/mirror"
 	"keelson/nand"
+	"keelson/plain"
 	"keelson/resync"
 	"keelson/scrub"
 	"keelson/view"
@@ -60,10 +61,13 @@ func (x *wild) files(f *fs.FS, e api.Errno) {
 	x.f = x.f[max(0, len(x.f)-3):]
 }
 
+// oneOf gives one of a few.
+func oneOf[T any](r *rand.Rand, list []T) T { return list[r.Intn(len(list))] }
+
 // path gives a path of a few short names, or whatever else.
 func (x *wild) path() string {
 	if x.rand.Intn(12) == 0 {
-		return wrongPaths[x.rand.Intn(len(wrongPaths))]
+		return oneOf(x.rand, plain.WrongPaths())
 	}
 	path := ""
 	for range x.rand.Intn(4) {
@@ -77,7 +81,7 @@ func (x *wild) path() string {
 
 func (x *wild) number() int {
 	if x.rand.Intn(6) == 0 {
-		return odd[x.rand.Intn(len(odd))]
+		return oneOf(x.rand, plain.Odd())
 	}
 	return x.rand.Intn(300)
 }
@@ -85,10 +89,10 @@ func (x *wild) number() int {
 func (x *wild) op() api.Op {
 	o := api.Op{Kind: x.rand.Intn(15), Path: x.path(), To: x.path(), H: x.rand.Intn(4), Off: x.number(), N: x.number()}
 	if x.rand.Intn(40) == 0 {
-		o.Kind, o.H = odd[x.rand.Intn(len(odd))], odd[x.rand.Intn(len(odd))]
+		o.Kind, o.H = oneOf(x.rand, plain.Odd()), oneOf(x.rand, plain.Odd())
 	}
 	if x.rand.Intn(3) > 0 {
-		o.Data = text(x.rand.Intn(400), x.rand.Intn(99))
+		o.Data = plain.Text(x.rand.Intn(400), x.rand.Intn(99))
 	}
 	return o
 }
@@ -114,7 +118,7 @@ func (x *wild) bends() {
 	case 9:
 		x.tell(x.tie.Set(api.View{Number: uint64(x.rand.Intn(30)), Members: 1 + x.rand.Intn(3), Base: uint64(x.rand.Intn(20))}))
 	default:
-		key, body := 8*(1+x.rand.Intn(4))+x.rand.Intn(3), text(x.rand.Intn(140), 1)
+		key, body := 8*(1+x.rand.Intn(4))+x.rand.Intn(3), plain.Text(x.rand.Intn(140), 1)
 		if x.rand.Intn(2) == 0 {
 			// Directories that stand wherever, in themselves, too.
 			body = []byte{2, 2, byte(1 + x.rand.Intn(4)), 1, 'a', byte(x.rand.Intn(30)), 1, 'b'}
@@ -149,7 +153,7 @@ func (x *wild) step() {
 		f, o := x.f[x.rand.Intn(len(x.f))], x.op()
 		a := f.Do(o)
 		x.tell(o, a)
-		if a.Code != api.OK && !same(a, api.Answer{Code: a.Code}) {
+		if a.Code != api.OK && !plain.Same(a, api.Answer{Code: a.Code}) {
 			x.more = append(x.more, fmt.Sprint(o, a))
 		}
 	}
